@@ -1,40 +1,43 @@
 package suffix
 
 import (
+	"iter"
 	"slices"
 	"testing"
 )
 
-func TestLabelsFromTheRight(t *testing.T) {
-	for _, c := range []struct {
-		text string
-		want []string
-	}{
-		{"a.b.c", []string{"c", "b", "a"}},
-		{"a", []string{"a"}},
-		{"", []string{""}},
-		{".", []string{"", ""}},
-		{"a..b.", []string{"", "b", "", "a"}},
-	} {
-		if got := slices.Collect(host(c.text).labels); !slices.Equal(got, c.want) {
-			t.Errorf("labels of %q: %q, want %q", c.text, got, c.want)
+// expectPieces goes through an iterator, and leaves it behind each piece once.
+func expectPieces(t *testing.T, text string, pieces iter.Seq[string], want ...string) {
+	t.Helper()
+	if got := slices.Collect(pieces); !slices.Equal(got, want) {
+		t.Errorf("the pieces of %q are %q, want %q", text, got, want)
+		return
+	}
+	for leave := range want {
+		var got []string
+		for piece := range pieces {
+			got = append(got, piece)
+			if len(got) == leave+1 {
+				break
+			}
+		}
+		if !slices.Equal(got, want[:leave+1]) {
+			t.Errorf("the pieces of %q, left early, are %q, want %q", text, got, want[:leave+1])
 		}
 	}
 }
 
-func TestLabelsLeftEarly(t *testing.T) {
-	for leave := 1; leave <= 3; leave++ {
-		var got []string
-		for l := range host("a.b.c").labels {
-			got = append(got, l)
-			if len(got) == leave {
-				break
-			}
-		}
-		if want := []string{"c", "b", "a"}[:leave]; !slices.Equal(got, want) {
-			t.Errorf("left at %d: %q, want %q", leave, got, want)
-		}
-	}
+func expectLabels(t *testing.T, text string, want ...string) {
+	t.Helper()
+	expectPieces(t, text, host(text).labels, want...)
+}
+
+func TestLabelsFromTheRight(t *testing.T) {
+	expectLabels(t, "a.b.c", "c", "b", "a")
+	expectLabels(t, "a", "a")
+	expectLabels(t, "", "")
+	expectLabels(t, ".", "", "")
+	expectLabels(t, "a..b.", "", "b", "", "a")
 }
 
 // TestChecks: for each check there is a label that breaks it.

@@ -27,7 +27,17 @@ func Plain(host string) (string, Errno) { return hostIn(host, label.plainForm) }
 func Shown(host string) (string, Errno) { return hostIn(host, label.shownForm) }
 
 // Compile makes the image of lists of rules (P4).
-func Compile(lists ...string) (string, Errno, int) { return "", OK, 0 }
+func Compile(lists ...string) (string, Errno, int) {
+	if areLong(lists...) {
+		return "", ErrLong, 0
+	}
+	var r reader
+	r.add(lists...)
+	if r.err != OK {
+		return "", r.err, r.read
+	}
+	return r.image(), OK, 0
+}
 
 // Rules tells the rules of an image (P5).
 func Rules(image string) (string, Errno) { return "", OK }
