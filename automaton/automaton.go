@@ -1,4 +1,4 @@
-// Package automaton writes keys as the image of an automaton of as few states as there can be: see 'Rules' in DOC.md.
+// Package automaton writes keys as the image of an automaton of as few states as there can be, and reads them again: see 'Rules' in DOC.md.
 package automaton
 
 import "slices"

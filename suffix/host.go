@@ -27,6 +27,24 @@ func (h host) labels(yield func(string) bool) {
 	}
 }
 
+// turned tells the labels in the other order: those of a host as its keys have them, and back.
+func (h host) turned() string {
+	return strings.Join(slices.Collect(h.labels), ".")
+}
+
+// last tells so many of the last labels, one at least; nothing, if there are fewer.
+func (h host) last(count int) string {
+	start := len(h) + 1
+	for piece := range h.labels {
+		start -= len(piece) + 1
+		count--
+		if count == 0 {
+			return string(h[start:])
+		}
+	}
+	return ""
+}
+
 // readHost tells the labels of a host, from the left.
 func readHost(text string) ([]label, Errno) {
 	if len(text) > maxHost {

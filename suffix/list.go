@@ -4,6 +4,12 @@ import "strings"
 
 const maxList = 2000 // bytes of all lists together
 
+// The lines with which sections begin.
+const (
+	beginI = "===i"
+	beginP = "===p"
+)
+
 // areLong tells whether the lists have too many bytes together.
 func areLong(lists ...string) bool {
 	left := maxList
@@ -29,5 +35,17 @@ func (l list) lines(yield func(string) bool) {
 			return
 		}
 		rest = behind
+	}
+}
+
+// listWriter writes a list.
+type listWriter struct {
+	text strings.Builder
+}
+
+func (w *listWriter) add(lines ...string) {
+	for _, line := range lines {
+		w.text.WriteString(line)
+		w.text.WriteByte('\n')
 	}
 }

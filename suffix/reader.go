@@ -1,17 +1,10 @@
 package suffix
 
-import (
-	"slices"
-	"strings"
-
-	"suffix/automaton"
-)
-
-const maxRules = 30
+import "strings"
 
 // reader reads lists, up to the first line that is refused.
 type reader struct {
-	rules   []rule
+	rules   ruleSet
 	section section // of the rules that follow in the list
 	read    int     // how many lines have been read
 	err     Errno   // why the line behind these was refused
@@ -42,36 +35,16 @@ func (r *reader) addLine(line string) Errno {
 	switch {
 	case line == "" || strings.HasPrefix(line, "//"):
 		return OK
-	case line == "===i":
+	case line == beginI:
 		r.section = sectionI
 		return OK
-	case line == "===p":
+	case line == beginP:
 		r.section = sectionP
 		return OK
 	}
-	found, ok := readRule(line, r.section)
+	found, ok := ruleOfLine(line, r.section)
 	if !ok {
 		return ErrList
 	}
-	return r.addRule(found)
-}
-
-func (r *reader) addRule(found rule) Errno {
-	if slices.ContainsFunc(r.rules, found.isKnownAs) {
-		return ErrTwice
-	}
-	if len(r.rules) == maxRules {
-		return ErrMany
-	}
-	r.rules = append(r.rules, found)
-	return OK
-}
-
-// image tells the image of the rules that were read.
-func (r *reader) image() string {
-	var keys []string
-	for _, each := range r.rules {
-		keys = append(keys, each.key())
-	}
-	return automaton.Image(keys...)
+	return r.rules.add(found)
 }

@@ -36,14 +36,31 @@ func Compile(lists ...string) (string, Errno, int) {
 	if r.err != OK {
 		return "", r.err, r.read
 	}
-	return r.image(), OK, 0
+	return r.rules.image(), OK, 0
 }
 
 // Rules tells the rules of an image (P5).
-func Rules(image string) (string, Errno) { return "", OK }
+func Rules(image string) (string, Errno) {
+	rules, err := readImage(image)
+	if err != OK {
+		return "", err
+	}
+	return rules.list(), OK
+}
 
 // Lookup tells a host's public suffix, its domain, and the section (P6).
-func Lookup(image string, host string) (string, string, string, Errno) { return "", "", "", OK }
+func Lookup(image string, host string) (string, string, string, Errno) {
+	rules, err := readImage(image)
+	if err != OK {
+		return "", "", "", err
+	}
+	plain, err := hostIn(host, label.plainForm)
+	if err != OK {
+		return "", "", "", err
+	}
+	by := rules.prevailing(plain)
+	return by.suffixOf(plain), by.domainOf(plain), string(by.section), OK
+}
 
 // New makes a world (P7).
 func New(image string) (*World, Errno) { return nil, OK }
