@@ -33,11 +33,14 @@ func expectRules(t *testing.T, want string, lists ...string) {
 	}
 }
 
-// expectNoImage asks Rules, and Lookup with a host and without one: the image is what is wrong first.
+// expectNoImage asks Rules, New, and Lookup with a host and without one: the image is what is wrong first.
 func expectNoImage(t *testing.T, want suffix.Errno, image string) {
 	t.Helper()
 	if got, err := suffix.Rules(image); got != "" || err != want {
 		t.Errorf("P5: Rules(%.90q) = %q, %d, want %d", image, got, err, want)
+	}
+	if world, err := suffix.New(image); world != nil || err != want {
+		t.Errorf("P7: New(%.90q) = %v, %d, want %d", image, world, err, want)
 	}
 	for _, host := range []string{"a.com", "-", "", strings.Repeat("a", 61)} {
 		if public, domain, section, err := suffix.Lookup(image, host); public != "" || domain != "" || section != "" || err != want {

@@ -17,9 +17,6 @@ const (
 	ErrDomain Errno = 9 // a domain that may not be set
 )
 
-// World keeps origins.
-type World struct{}
-
 // Plain tells the plain form of a host (P3).
 func Plain(host string) (string, Errno) { return hostIn(host, label.plainForm) }
 
@@ -62,20 +59,63 @@ func Lookup(image string, host string) (string, string, string, Errno) {
 	return by.suffixOf(plain), by.domainOf(plain), string(by.section), OK
 }
 
-// New makes a world (P7).
-func New(image string) (*World, Errno) { return nil, OK }
+// New makes a world without origins (P7).
+func New(image string) (*World, Errno) {
+	rules, err := readImage(image)
+	if err != OK {
+		return nil, err
+	}
+	return &World{rules: rules}, OK
+}
 
 // Tuple makes an origin of a scheme, a host and a port (P7).
-func (w *World) Tuple(scheme string, host string, port int) (int, Errno) { return 0, OK }
+func (w *World) Tuple(scheme string, host string, port int) (int, Errno) {
+	if !isScheme(scheme) || !isPort(port) {
+		return 0, ErrArg
+	}
+	plain, err := hostIn(host, label.plainForm)
+	if err != OK {
+		return 0, err
+	}
+	return w.add(origin{from: newTuple(scheme, plain, port)})
+}
 
 // Opaque makes an origin that is like no other (P7).
-func (w *World) Opaque() (int, Errno) { return 0, OK }
+func (w *World) Opaque() (int, Errno) { return w.add(origin{}) }
 
 // Domain sets an origin's domain (P8).
-func (w *World) Domain(origin int, value string) Errno { return OK }
+func (w *World) Domain(origin int, value string) Errno {
+	if !w.has(origin) {
+		return ErrArg
+	}
+	of := &w.origins[origin]
+	if of.isOpaque() {
+		return ErrOpaque
+	}
+	plain, err := hostIn(value, label.plainForm)
+	if err != OK {
+		return err
+	}
+	if !w.mayBeDomain(plain, of.from.host) {
+		return ErrDomain
+	}
+	of.domain = plain
+	return OK
+}
 
 // Site tells an origin's site (P9).
-func (w *World) Site(origin int) (string, Errno) { return "", OK }
+func (w *World) Site(origin int) (string, Errno) {
+	if !w.has(origin) {
+		return "", ErrArg
+	}
+	return w.site(origin), OK
+}
 
 // Same tells whether two origins are the same, the same by domain, and of one site (P9).
-func (w *World) Same(a int, b int) (bool, bool, bool, Errno) { return false, false, false, OK }
+func (w *World) Same(a int, b int) (bool, bool, bool, Errno) {
+	if !w.has(a) || !w.has(b) {
+		return false, false, false, ErrArg
+	}
+	answers := w.relations(a, b)
+	return answers[0], answers[1], answers[2], OK
+}
